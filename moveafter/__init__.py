@@ -1,0 +1,1 @@
+"""Scripts that move items of a line next to other items."""

@@ -1,0 +1,103 @@
+"""The examples of the document, as they stand in it."""
+
+import doctest
+import pathlib
+import unittest
+
+README = pathlib.Path(__file__).parent.parent / "README.md"
+
+EXAMPLES = {
+    "4 is_line, is_command, is_script": """
+>>> from moveafter.lines import is_command, is_line, is_script
+>>> [is_line((3, 0)), is_line((3, 3)), is_command(("behind", 1, 2)), is_command(("behind", 1, 1)), is_script(())]
+[True, False, True, False, False]
+""",
+    "4 moved": """
+>>> from moveafter.lines import moved
+>>> [moved((0, 1, 2), ("behind", 0, 1)), moved((0, 1, 2), ("before", 2, 0))]
+[(1, 0, 2), (2, 0, 1)]
+""",
+    "4 after_script": """
+>>> from moveafter.lines import after_script
+>>> script = (("behind", 0, 1), ("behind", 1, 2), ("behind", 2, 0))
+>>> [after_script((0, 1, 2), script), after_script((2, 9, 1, 0), script)]
+[(0, 2, 1), (1, 9, 0, 2)]
+""",
+    "4 lines_from": """
+>>> from moveafter.lines import lines_from
+>>> script = (("behind", 0, 1), ("behind", 1, 2), ("behind", 2, 0))
+>>> [line for turn, line in zip(range(4), lines_from((0, 1, 2), script))]
+[(0, 1, 2), (0, 2, 1), (1, 0, 2), (0, 2, 1)]
+""",
+    "4 items_of": """
+>>> from moveafter.lines import items_of
+>>> items_of((("behind", 7, 1), ("before", 1, 4)))
+[1, 4, 7]
+""",
+    "5 block_of, source_of": """
+>>> from moveafter.blocks import block_of, source_of
+>>> script = (("behind", 0, 1), ("behind", 1, 2), ("behind", 2, 0))
+>>> [block_of(script, item) for item in [0, 1, 2, 9]]
+[(), (0, 2), (1,), (9,)]
+>>> [source_of(script, item) for item in [0, 1, 2, 9]]
+[1, 2, 1, 9]
+""",
+    "5 blocks_of": """
+>>> from moveafter.blocks import blocks_of
+>>> blocks_of((("behind", 0, 1), ("behind", 1, 2), ("behind", 2, 0)))
+{0: (), 1: (0, 2), 2: (1,)}
+""",
+    "5 same_blocks": """
+>>> from moveafter.blocks import same_blocks
+>>> one, two = (("behind", 0, 1),), (("before", 1, 0), ("behind", 0, 1))
+>>> [same_blocks(one, one), same_blocks(one, two)]
+[True, False]
+""",
+    "5 is_effect": """
+>>> from moveafter.blocks import is_effect
+>>> [is_effect({0: (), 1: (0, 1)}), is_effect({0: (1,)}), is_effect({})]
+[True, False, False]
+""",
+    "5 joined": """
+>>> from moveafter.blocks import joined
+>>> effect = {0: (), 1: (0, 2), 2: (1,)}
+>>> joined(effect, effect)
+{0: (), 1: (1,), 2: (0, 2)}
+""",
+}
+
+
+class Examples(unittest.TestCase):
+    def run_example(self, name, text):
+        found = []
+        example = doctest.DocTestParser().get_doctest(text, {}, name, None, 0)
+        result = doctest.DocTestRunner(verbose=False).run(example, out=found.append)
+        self.assertGreater(result.attempted, 1)
+        self.assertEqual(result.failed, 0, "".join(found))
+
+    def test_examples(self):
+        for name, text in EXAMPLES.items():
+            with self.subTest(name):
+                self.run_example(name, text)
+
+    def test_readme(self):
+        for part in README.read_text(encoding="utf-8").split("```")[1::2]:
+            if ">>>" in part:
+                self.run_example("README.md", part)
+
+    def test_table(self):
+        from moveafter.blocks import blocks_of
+        from moveafter.lines import after_script
+        script = (("behind", 0, 1), ("behind", 1, 2), ("behind", 2, 0))
+        rows = [
+            ((1, 0, 2), {0: (), 1: (1, 0)}),
+            ((0, 2, 1), {0: (), 1: (0,), 2: (2, 1)}),
+            ((0, 2, 1), {0: (), 1: (0, 2), 2: (1,)}),
+        ]
+        for many, (line, blocks) in enumerate(rows, 1):
+            self.assertEqual(after_script((0, 1, 2), script[:many]), line)
+            self.assertEqual(blocks_of(script[:many]), blocks)
+
+
+if __name__ == "__main__":
+    unittest.main()
