@@ -1,7 +1,7 @@
 """Plays scripts on rows of items. These functions check nothing: their callers have checked."""
 
 # Not an item, so that no command can move it or name it.
-WALL = -1
+FENCE = -1
 
 
 def named_items(script):
@@ -21,20 +21,20 @@ def played(items, script):
     return row
 
 
-def walled(items):
-    """Return a list of the items with a wall before each one."""
+def fenced(items):
+    """Return a list of the items with a fence before each one."""
     row = []
     for item in items:
-        row.append(WALL)
+        row.append(FENCE)
         row.append(item)
     return row
 
 
-def between_walls(row):
-    """Return the list of the tuples that stand behind one wall each."""
+def between_fences(row):
+    """Return the list of the tuples that stand behind one fence each."""
     parts = []
     for item in row:
-        if item == WALL:
+        if item == FENCE:
             parts.append([])
         else:
             parts[-1].append(item)
@@ -44,9 +44,9 @@ def between_walls(row):
 def effect_of(script):
     """Return the dict of the blocks of the named items, keys ascending."""
     named = named_items(script)
-    # Walls never move, and an item moves directly next to another one, so it lands on the same
-    # side of each wall. What stands between two walls at last is therefore one item's block.
-    blocks = between_walls(played(walled(named), script))
+    # Fences never move, and an item moves directly next to another one, so it lands on the same
+    # side of each fence. What stands between two fences at last is therefore one item's block.
+    blocks = between_fences(played(fenced(named), script))
     return {item: block for item, block in zip(named, blocks)}
 
 
