@@ -2,7 +2,7 @@
 
 from moveafter.errors import NoEffect, NotAlike
 from moveafter.lines import MOST_ITEMS, is_item, require_item, require_script
-from moveafter.playing import effect_of, replaced
+from moveafter.playing import effect_of, followed, replaced, sources_of
 
 
 def block_of(script, item):
@@ -16,11 +16,8 @@ def source_of(script, item):
     """Return the item whose block contains an item."""
     require_script(script)
     require_item(item)
-    for source, block in effect_of(script).items():
-        if item in block:
-            return source
     # An item that is not named stands in its own block.
-    return item
+    return sources_of(effect_of(script)).get(item, item)
 
 
 def blocks_of(script):
@@ -65,4 +62,4 @@ def joined(effect, other_effect):
     require_effect(other_effect)
     if sorted(effect) != sorted(other_effect):
         raise NotAlike("the effects have different items")
-    return {item: replaced(effect[item], other_effect) for item in sorted(effect)}
+    return followed(effect, other_effect)

@@ -1,16 +1,22 @@
 """Items, lines, commands and scripts, and what a script does to a line."""
 
-from moveafter.errors import Missing, NoCommand, NoItem, NoLine, NoScript
+from moveafter.errors import Missing, NoCommand, NoItem, NoLine, NoScript, NoTimes
 from moveafter.playing import effect_of, named_items, played, replaced
 
 MOST_ITEMS = 60
 MOST_COMMANDS = 200
+MOST_TIMES = 10 ** 30
 WORDS = ("behind", "before")
+
+
+def is_within(value, least, most):
+    """Return True if the value is an integer in these bounds, otherwise False."""
+    return isinstance(value, int) and not isinstance(value, bool) and least <= value <= most
 
 
 def is_item(value):
     """Return True if the value is an item, otherwise False."""
-    return isinstance(value, int) and not isinstance(value, bool) and 0 <= value < MOST_ITEMS
+    return is_within(value, 0, MOST_ITEMS - 1)
 
 
 def is_line(value):
@@ -61,11 +67,25 @@ def require_item(value):
         raise NoItem("an item is an integer from 0 to 59")
 
 
+def require_times(value):
+    """Raise NoTimes if the value is not a number of repetitions."""
+    if not is_within(value, 0, MOST_TIMES):
+        raise NoTimes("a number of repetitions is an integer from 0 to 10 ** 30")
+
+
 def require_present(line, script):
     """Raise Missing if an item of the commands is not in the line."""
     for item in named_items(script):
         if item not in line:
             raise Missing(f"the item {item} is not in the line")
+
+
+def require_repeatable(line, script, times):
+    """Raise the first error of a line, a script and a number of repetitions of it on the line."""
+    require_line(line)
+    require_script(script)
+    require_times(times)
+    require_present(line, script)
 
 
 def moved(line, command):

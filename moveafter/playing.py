@@ -1,4 +1,4 @@
-"""Plays scripts on rows of items. These functions check nothing: their callers have checked."""
+"""Plays scripts on rows of items, once and repeatedly. These functions check nothing: their callers have checked."""
 
 # Not an item, so that no command can move it or name it.
 FENCE = -1
@@ -53,3 +53,51 @@ def effect_of(script):
 def replaced(items, blocks):
     """Return the tuple in which each item gives way to its block, if it has one in the dict."""
     return tuple([part for item in items for part in blocks.get(item, (item,))])
+
+
+def followed(effect, other_effect):
+    """Return the effect of one effect and then another one of the same items, keys ascending."""
+    return {item: replaced(effect[item], other_effect) for item in sorted(effect)}
+
+
+def effect_after(script, times):
+    """Return the dict of the blocks of the named items for so many repetitions, keys ascending."""
+    doubled = effect_of(script)
+    blocks = {item: (item,) for item in doubled}
+    # The repetitions are doubled step by step, so that 10 ** 30 of them take a hundred steps.
+    while times > 0:
+        if times & 1:
+            blocks = followed(blocks, doubled)
+        doubled = followed(doubled, doubled)
+        times >>= 1
+    return blocks
+
+
+def sources_of(effect):
+    """Return the dict of the sources of the items of an effect."""
+    return {item: source for source, block in effect.items() for item in block}
+
+
+def remaining_sources(sources):
+    """Return the ascending lists of the items whose blocks are not empty after 0, 1, 2 and so on repetitions.
+
+    The last list is the one that all further repetitions leave as it is: the items of the rings.
+    """
+    rows = [sorted(sources)]
+    while True:
+        row = sorted({sources[item] for item in rows[-1]})
+        if row == rows[-1]:
+            return rows
+        rows.append(row)
+
+
+def source_rings(sources):
+    """Return the rings of the sources, ascending, each one from its least item on."""
+    rings = []
+    for first in remaining_sources(sources)[-1]:
+        if not any([first in found for found in rings]):
+            ring = [first]
+            while sources[ring[-1]] != first:
+                ring.append(sources[ring[-1]])
+            rings.append(ring)
+    return rings

@@ -1,6 +1,13 @@
-"""Sample values for the tests, and slow, plain ways to work out what the package must return."""
+"""Sample values for the tests, slow, plain ways to work out what the package must return, and checks of errors."""
+
+import itertools
+import unittest
+
+from moveafter.errors import MoveError
 
 SCRIPT = (("behind", 0, 1), ("behind", 1, 2), ("behind", 2, 0))
+
+COMMAND = SCRIPT[0]
 
 FULL_LINE = tuple(range(60))
 
@@ -10,6 +17,19 @@ STRANGE = (
     (), [], {}, set(), {0, 1}, [0], [0, 1], ((),), ([],), [()], {0: None}, {0: [0]}, {"0": ()}, {None: None},
     object(), len, int, ValueError("0"), range(3), (None,), ("",), (((0,),),), [[[[[0]]]]],
 )
+
+BAD_LINES = [*STRANGE, [0, 1, 2], (0, 0), (0, 60), (True, 0), FULL_LINE + (0,), FULL_LINE + (60,)]
+
+BAD_SCRIPTS = [*STRANGE, list(SCRIPT), COMMAND, (list(COMMAND),), SCRIPT + (("behind", 1, 1),),
+               (COMMAND,) * 201, SCRIPT + (("behind", 0, 60),), SCRIPT + (("after", 0, 1),)]
+
+BAD_ITEMS = [*STRANGE, 61, -60, "3", (3,), [3]]
+
+BAD_EFFECTS = [*STRANGE, {0: [0]}, {0: (1,)}, {0: (0,), 1: ()}, {0: (0, 1), 1: (1,)}, {True: (1,)}, {0: (False,)},
+               {60: (60,)}, ((0, (0,)),), {item: (item,) for item in range(61)}]
+
+# Of the strange values, 60 alone is a number of repetitions.
+BAD_TIMES = [*[value for value in STRANGE if value != 60], -(10 ** 30), 10 ** 30 + 1, 2 * 10 ** 30, "1", (1,), [1]]
 
 
 class Dice:
@@ -75,6 +95,19 @@ def slow_blocks(script):
     return {item: tuple(block) for item, block in blocks.items()}
 
 
+def slow_blocks_after(script, times):
+    return slow_blocks(script * times) if times else {item: (item,) for item in slow_items(script)}
+
+
+def slow_sources(blocks):
+    return {item: source for source, block in blocks.items() for item in block}
+
+
+def lines_of(items):
+    """Return all lines of the items, ascending."""
+    return list(itertools.permutations(sorted(items)))
+
+
 def sample_scripts():
     """Yield scripts of many lengths over few and many items."""
     dice = Dice(5)
@@ -86,3 +119,70 @@ def sample_scripts():
 
 def all_commands(items):
     return [(word, item, other) for word in ("behind", "before") for item in items for other in items if item != other]
+
+
+def small_scripts():
+    """Yield all scripts of one or two commands on three items, and some longer ones on up to four."""
+    commands = all_commands([0, 1, 2])
+    yield from [(command,) for command in commands]
+    yield from itertools.product(commands, commands)
+    dice = Dice(31)
+    for size, many in [(3, 3), (3, 4), (3, 6), (4, 3), (4, 4), (4, 5), (4, 7), (4, 12)]:
+        for _ in range(12):
+            yield dice.script(dice.some(range(60), size), many)
+
+
+def chain_script(items):
+    """Return the script that moves each item but the last one behind the next one."""
+    return tuple(("behind", item, other) for item, other in zip(items, items[1:]))
+
+
+def ring_script(items, lengths):
+    """Return a script whose sources have rings of these lengths, of the items in order.
+
+    The first item keeps a place in each ring free, and at last it goes behind the last item, which stays.
+    """
+    helper, *rest = items
+    commands = []
+    for length in lengths:
+        ring, rest = rest[:length], rest[length:]
+        commands += chain_script([helper, *ring, helper])
+    return (*commands, ("behind", helper, items[-1]))
+
+
+class ErrorCase(unittest.TestCase):
+    """Checks that a call raises the error that is listed first of those that apply."""
+
+    def check(self, error, function, *arguments, **keywords):
+        shown = repr((arguments, keywords))
+        with self.assertRaises(MoveError, msg=shown) as caught:
+            function(*arguments, **keywords)
+        self.assertIs(type(caught.exception), error, shown)
+        self.assertIsInstance(caught.exception, ValueError)
+        self.assertEqual(repr((arguments, keywords)), shown)
+
+    def check_faults(self, function, arguments, faults):
+        """Check each fault (an error, a parameter's name, wrong values) alone and beside each later one.
+
+        The faults stand in the order in which their errors are listed.
+        """
+        self.call(None, function, arguments)
+        for at, (error, name, values) in enumerate(faults):
+            for value in values:
+                self.call(error, function, {**arguments, name: value})
+            for _, other_name, other_values in faults[at + 1:]:
+                if other_name != name:
+                    for value, other in itertools.product(values[::5], other_values[::5]):
+                        self.call(error, function, {**arguments, name: value, other_name: other})
+            # All later faults at once.
+            for value in values:
+                spoiled = {later[1]: later[2][0] for later in reversed(faults[at:])}
+                self.call(error, function, {**arguments, **spoiled, name: value})
+
+    def call(self, error, function, arguments):
+        by_position = [value for name, value in arguments.items() if name != "times"]
+        by_keyword = {name: value for name, value in arguments.items() if name == "times"}
+        if error is None:
+            function(*by_position, **by_keyword)
+        else:
+            self.check(error, function, *by_position, **by_keyword)

@@ -4,17 +4,10 @@ import copy
 import unittest
 
 from moveafter.blocks import block_of, blocks_of, is_effect, joined, same_blocks, source_of
-from moveafter.errors import MoveError, NoEffect, NoItem, NoScript, NotAlike
+from moveafter.errors import NoEffect, NoItem, NoScript, NotAlike
 from moveafter.lines import after_script, items_of
-from tests.samples import FULL_LINE, SCRIPT, STRANGE, Dice, all_commands, sample_scripts, slow_blocks
-
-BAD_SCRIPTS = [*STRANGE, list(SCRIPT), SCRIPT[0], (list(SCRIPT[0]),), SCRIPT + (("behind", 1, 1),),
-               SCRIPT[:1] * 201, SCRIPT + (("behind", 0, 60),)]
-
-BAD_ITEMS = [*STRANGE, 61, -60, "3", (3,), [3]]
-
-BAD_EFFECTS = [*STRANGE, {0: [0]}, {0: (1,)}, {0: (0,), 1: ()}, {0: (0, 1), 1: (1,)}, {True: (1,)}, {0: (False,)},
-               {60: (60,)}, ((0, (0,)),), {item: (item,) for item in range(61)}]
+from tests.samples import (BAD_EFFECTS, BAD_ITEMS, BAD_SCRIPTS, FULL_LINE, SCRIPT, Dice, ErrorCase, all_commands,
+                           sample_scripts, slow_blocks)
 
 EFFECT = {0: (), 1: (0, 2), 2: (1,)}
 
@@ -220,15 +213,7 @@ class Joined(unittest.TestCase):
         self.assertEqual(joined(effect, other), EFFECT)
 
 
-class BlockErrors(unittest.TestCase):
-    def check(self, error, function, *arguments):
-        shown = repr(arguments)
-        with self.assertRaises(MoveError, msg=shown) as caught:
-            function(*arguments)
-        self.assertIs(type(caught.exception), error, shown)
-        self.assertIsInstance(caught.exception, ValueError)
-        self.assertEqual(repr(arguments), shown)
-
+class BlockErrors(ErrorCase):
     def test_no_script(self):
         for script in BAD_SCRIPTS:
             self.check(NoScript, block_of, script, 0)

@@ -64,6 +64,97 @@ EXAMPLES = {
 >>> joined(effect, effect)
 {0: (), 1: (1,), 2: (0, 2)}
 """,
+    "6 after_times": """
+>>> from moveafter.repeats import after_times
+>>> script = (("behind", 0, 1), ("behind", 1, 2), ("behind", 2, 0))
+>>> [after_times((0, 1, 2), script, times=times) for times in [0, 1, 2, 10 ** 30]]
+[(0, 1, 2), (0, 2, 1), (1, 0, 2), (1, 0, 2)]
+""",
+    "6 blocks_after": """
+>>> from moveafter.repeats import blocks_after
+>>> script = (("behind", 0, 1), ("behind", 1, 2), ("behind", 2, 0))
+>>> [blocks_after(script, times=times) for times in [0, 2]]
+[{0: (0,), 1: (1,), 2: (2,)}, {0: (), 1: (1,), 2: (0, 2)}]
+""",
+    "6 settled_after, final_blocks": """
+>>> from moveafter.repeats import final_blocks, settled_after
+>>> script = (("behind", 0, 1), ("behind", 1, 2), ("behind", 2, 0))
+>>> [settled_after(script), final_blocks(script), final_blocks((("behind", 0, 1), ("behind", 1, 2)))]
+[1, [(0, 2), (1,)], [(2, 1, 0)]]
+""",
+    "6 rings_of, period": """
+>>> from moveafter.repeats import period, rings_of
+>>> script = (("behind", 0, 1), ("behind", 1, 2), ("behind", 2, 0))
+>>> [rings_of(script), period(script), rings_of((("behind", 0, 1),))]
+[[[1, 2]], 2, [[1]]]
+""",
+    "7 relation": """
+>>> from moveafter.relations import relation
+>>> script = (("behind", 0, 1), ("behind", 1, 2), ("behind", 2, 0))
+>>> [relation(script, 0, 2), relation(script, 2, 0), relation(script, 0, 1), relation(script, 0, 9)]
+['ahead', 'behind', 'open', 'open']
+""",
+    "7 deciding": """
+>>> from moveafter.relations import deciding
+>>> script = (("behind", 0, 1), ("behind", 1, 2), ("behind", 2, 0))
+>>> [deciding(script, 0, 1), deciding(script, 0, 9, times=2), deciding(script, 0, 2)]
+[(1, 2), (2, 9), None]
+""",
+    "7 relation_with": """
+>>> from moveafter.relations import relation_with
+>>> script = (("behind", 0, 1), ("behind", 1, 2), ("behind", 2, 0))
+>>> [relation_with(script, 0, 1, known) for known in [(), ((1, 2),), ((2, 7), (7, 1))]]
+['open', 'ahead', 'behind']
+""",
+    "8 count_ends": """
+>>> from moveafter.starts import count_ends
+>>> script = (("behind", 0, 1), ("behind", 1, 2), ("behind", 2, 0))
+>>> [count_ends(script, times=times) for times in [0, 1, 10 ** 30]]
+[6, 2, 2]
+""",
+    "8 count_starts": """
+>>> from moveafter.starts import count_starts
+>>> script = (("behind", 0, 1), ("behind", 1, 2), ("behind", 2, 0))
+>>> [count_starts(line, script) for line in [(0, 2, 1), (2, 0, 1), (1, 0, 2, 9)]]
+[3, 0, 4]
+""",
+    "8 nth_start, start_number": """
+>>> from moveafter.starts import nth_start, start_number
+>>> script = (("behind", 0, 1), ("behind", 1, 2), ("behind", 2, 0))
+>>> [nth_start((0, 2, 1), script, number) for number in [0, 1, 2]]
+[(0, 1, 2), (1, 0, 2), (1, 2, 0)]
+>>> start_number((1, 0, 2), script)
+1
+""",
+    "9 is_possible": """
+>>> from moveafter.plans import is_possible
+>>> [is_possible(effect) for effect in [{0: (), 1: (0, 1)}, {0: (0,), 1: (1,)}, {0: (1,), 1: (0,)}]]
+[True, True, False]
+""",
+    "9 fewest_commands, plan_for": """
+>>> from moveafter.plans import fewest_commands, plan_for
+>>> effects = [{0: (), 1: (0, 2), 2: (1,)}, {0: (1,), 1: (0,), 2: (2, 3), 3: ()}, {0: (0,)}]
+>>> [fewest_commands(effect) for effect in effects]
+[3, 4, 0]
+>>> plan_for({0: (0, 1), 1: ()})
+(('behind', 1, 0),)
+""",
+    "9 has_effect": """
+>>> from moveafter.plans import has_effect
+>>> script = (("behind", 0, 1), ("behind", 1, 2), ("behind", 2, 0))
+>>> [has_effect(script, {0: (), 1: (0, 2), 2: (1,)}), has_effect(script, {0: (), 1: (0, 2), 2: (1,), 5: (5,)})]
+[True, True]
+""",
+    "9 count_effects": """
+>>> from moveafter.plans import count_effects
+>>> [count_effects(size) for size in [1, 2, 3, 4]]
+[1, 5, 55, 817]
+""",
+    "9 fewest_moves, moves_for": """
+>>> from moveafter.plans import fewest_moves, moves_for
+>>> [fewest_moves((0, 1, 2, 3), (3, 0, 1, 2)), moves_for((0, 1, 2, 3), (3, 0, 1, 2)), fewest_moves((2, 1, 0), (0, 1, 2))]
+[1, (('before', 3, 0),), 2]
+""",
 }
 
 

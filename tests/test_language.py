@@ -6,7 +6,7 @@ import pathlib
 import re
 import unittest
 
-from moveafter import blocks, lines
+from moveafter import blocks, lines, plans, relations, repeats, starts
 
 PACKAGE = pathlib.Path(lines.__file__).parent
 
@@ -19,7 +19,27 @@ INTERFACE = {
         "block_of": "(script, item)", "source_of": "(script, item)", "blocks_of": "(script)",
         "same_blocks": "(script, other_script)", "is_effect": "(value)", "joined": "(effect, other_effect)",
     },
+    repeats: {
+        "after_times": "(line, script, *, times=1)", "blocks_after": "(script, *, times=1)",
+        "settled_after": "(script)", "final_blocks": "(script)", "rings_of": "(script)", "period": "(script)",
+    },
+    relations: {
+        "relation": "(script, item, other, *, times=1)", "deciding": "(script, item, other, *, times=1)",
+        "relation_with": "(script, item, other, known, *, times=1)",
+    },
+    starts: {
+        "count_ends": "(script, *, times=1)", "count_starts": "(line, script, *, times=1)",
+        "nth_start": "(line, script, number, *, times=1)", "start_number": "(line, script, *, times=1)",
+    },
+    plans: {
+        "is_possible": "(effect)", "fewest_commands": "(effect)", "plan_for": "(effect)",
+        "has_effect": "(script, effect)", "count_effects": "(size)", "fewest_moves": "(line, target)",
+        "moves_for": "(line, target)",
+    },
 }
+
+# Of the library the package needs only these (L2).
+LIBRARY = {"math": ["factorial", "lcm", "perm"]}
 
 BUILTINS = """len range enumerate zip min max sum abs sorted reversed int str bool list tuple dict set isinstance repr
 any all divmod ValueError""".split()
@@ -27,6 +47,9 @@ any all divmod ValueError""".split()
 METHODS = """append clear copy count endswith extend find get index insert isalnum isalpha isdigit islower isspace
 isupper items join keys ljust lower lstrip partition pop remove replace reverse rfind rjust rpartition rsplit rstrip
 setdefault split splitlines startswith strip update upper values zfill bit_length""".split()
+
+# Of sets that are stored (L24).
+METHODS += ["add", "discard"]
 
 
 def sources():
@@ -70,6 +93,11 @@ class Language(unittest.TestCase):
     def test_imports(self):
         self.assertEqual(nodes(ast.Import), [])
         for name, node in nodes(ast.ImportFrom):
+            if node.module in LIBRARY:
+                for alias in node.names:
+                    self.assertIn(alias.name, LIBRARY[node.module], name)
+                    self.assertIsNone(alias.asname)
+                continue
             self.assertTrue(node.module.startswith("moveafter."), name)
             file = PACKAGE / (node.module.split(".")[1] + ".py")
             defined = [getattr(part, "name", None) for part in ast.parse(file.read_text()).body]
@@ -82,7 +110,7 @@ class Language(unittest.TestCase):
         for name, node in nodes(ast.Call):
             if isinstance(node.func, ast.Attribute):
                 self.assertIn(node.func.attr, METHODS, name)
-        known = [node.name for _, node in nodes((ast.FunctionDef, ast.ClassDef))]
+        known = [node.name for _, node in nodes((ast.FunctionDef, ast.ClassDef))] + sum(LIBRARY.values(), [])
         for name, node in nodes(ast.Call):
             if isinstance(node.func, ast.Name):
                 self.assertIn(node.func.id, known + BUILTINS, name)

@@ -2,19 +2,13 @@
 
 import unittest
 
-from moveafter.errors import Missing, MoveError, NoCommand, NoLine, NoScript
+from moveafter.errors import Missing, NoCommand, NoLine, NoScript
 from moveafter.lines import after_script, items_of, lines_from, moved
-from tests.samples import (FULL_LINE, SCRIPT, STRANGE, Dice, all_commands, sample_scripts, slow_after, slow_items,
-                           slow_moved)
-
-COMMAND = ("behind", 0, 1)
-
-BAD_LINES = [*STRANGE, [0, 1, 2], (0, 0), (0, 60), (True, 0), FULL_LINE + (0,), FULL_LINE + (60,)]
+from tests.samples import (BAD_LINES, BAD_SCRIPTS, COMMAND, FULL_LINE, SCRIPT, STRANGE, Dice, ErrorCase, all_commands,
+                           sample_scripts, slow_after, slow_items, slow_moved)
 
 BAD_COMMANDS = [*STRANGE, ["behind", 0, 1], ("behind", 0, 0), ("behind", 0, 60), ("behind", True, 0), ("after", 0, 1),
                 ("behind", 0), ("behind", 0, 1, 2), (COMMAND,)]
-
-BAD_SCRIPTS = [*STRANGE, [COMMAND], COMMAND, (list(COMMAND),), (COMMAND, ("behind", 1, 1)), (COMMAND,) * 201]
 
 
 def first_of(line, script):
@@ -141,15 +135,7 @@ class ItemsOf(unittest.TestCase):
         self.assertEqual(items_of(SCRIPT), [0, 1, 2])
 
 
-class LineErrors(unittest.TestCase):
-    def check(self, error, function, *arguments):
-        shown = repr(arguments)
-        with self.assertRaises(MoveError, msg=shown) as caught:
-            function(*arguments)
-        self.assertIs(type(caught.exception), error, shown)
-        self.assertIsInstance(caught.exception, ValueError)
-        self.assertEqual(repr(arguments), shown)
-
+class LineErrors(ErrorCase):
     def test_no_line(self):
         for line in BAD_LINES:
             self.check(NoLine, moved, line, COMMAND)
