@@ -73,11 +73,16 @@ def require_times(value):
         raise NoTimes("a number of repetitions is an integer from 0 to 10 ** 30")
 
 
-def require_present(line, script):
-    """Raise Missing if an item of the commands is not in the line."""
-    for item in named_items(script):
+def require_inside(line, items):
+    """Raise Missing if one of the items is not in the line."""
+    for item in items:
         if item not in line:
             raise Missing(f"the item {item} is not in the line")
+
+
+def require_present(line, script):
+    """Raise Missing if an item of the commands is not in the line."""
+    require_inside(line, named_items(script))
 
 
 def require_repeatable(line, script, times):

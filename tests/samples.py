@@ -28,8 +28,17 @@ BAD_ITEMS = [*STRANGE, 61, -60, "3", (3,), [3]]
 BAD_EFFECTS = [*STRANGE, {0: [0]}, {0: (1,)}, {0: (0,), 1: ()}, {0: (0, 1), 1: (1,)}, {True: (1,)}, {0: (False,)},
                {60: (60,)}, ((0, (0,)),), {item: (item,) for item in range(61)}]
 
+# Of the strange values, {0: None} alone is friends.
+BAD_FRIENDS = [*[value for value in STRANGE if value != {0: None}], {0: 0}, {0: 1}, {0: 1, 1: 2}, {0: 1, 1: True},
+               {True: None}, {0: False, 1: None}, {60: None}, {-1: None}, {0: 60, 60: None}, {0: "1", 1: None},
+               {0: (1,), 1: None}, {0: [1], 1: None}, {0: None, "1": None}, ((0, None),), {0: None, None: 0},
+               {item: None for item in range(61)}]
+
 # Of the strange values, 60 alone is a number of repetitions.
 BAD_TIMES = [*[value for value in STRANGE if value != 60], -(10 ** 30), 10 ** 30 + 1, 2 * 10 ** 30, "1", (1,), [1]]
+
+# The parameters that are passed by keyword.
+KEYWORDS = ("times", "days")
 
 
 class Dice:
@@ -101,6 +110,29 @@ def slow_blocks_after(script, times):
 
 def slow_sources(blocks):
     return {item: source for source, block in blocks.items() for item in block}
+
+
+def some_friends(dice, items, loners):
+    """Return friends in which so many items have no friend, and the others any other one."""
+    alone = dice.some(items, loners)
+    return {item: None if item in alone else dice.some([other for other in items if other != item], 1)[0]
+            for item in dice.shuffled(items)}
+
+
+def sample_friends():
+    """Yield friends of many sizes, with and without rings."""
+    dice = Dice(61)
+    for size, loners in [(1, 1), (2, 0), (2, 1), (2, 2), (3, 0), (3, 1), (5, 0), (5, 2), (9, 1), (20, 0), (20, 15),
+                         (40, 3), (60, 0), (60, 1), (60, 30), (60, 60)]:
+        for _ in range(5):
+            yield some_friends(dice, dice.some(FULL_LINE, size), loners)
+
+
+def slow_day(line, friends):
+    for item in range(60):
+        if friends.get(item) is not None:
+            line = slow_moved(line, ("behind", item, friends[item]))
+    return line
 
 
 def lines_of(items):
@@ -180,8 +212,8 @@ class ErrorCase(unittest.TestCase):
                 self.call(error, function, {**arguments, **spoiled, name: value})
 
     def call(self, error, function, arguments):
-        by_position = [value for name, value in arguments.items() if name != "times"]
-        by_keyword = {name: value for name, value in arguments.items() if name == "times"}
+        by_position = [value for name, value in arguments.items() if name not in KEYWORDS]
+        by_keyword = {name: value for name, value in arguments.items() if name in KEYWORDS}
         if error is None:
             function(*by_position, **by_keyword)
         else:

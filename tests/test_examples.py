@@ -155,6 +155,101 @@ EXAMPLES = {
 >>> [fewest_moves((0, 1, 2, 3), (3, 0, 1, 2)), moves_for((0, 1, 2, 3), (3, 0, 1, 2)), fewest_moves((2, 1, 0), (0, 1, 2))]
 [1, (('before', 3, 0),), 2]
 """,
+    "10 is_friends": """
+>>> from moveafter.friends import is_friends
+>>> [is_friends({0: 1, 1: None}), is_friends({0: 0}), is_friends({0: 1})]
+[True, False, False]
+""",
+    "10 day_script": """
+>>> from moveafter.friends import day_script
+>>> day_script({0: 1, 1: 2, 2: None})
+(('behind', 0, 1), ('behind', 1, 2))
+""",
+    "10 after_days": """
+>>> from moveafter.friends import after_days
+>>> [after_days((0, 1, 2), {0: 1, 1: 2, 2: None}, days=days) for days in [1, 2, 10 ** 30]]
+[(0, 2, 1), (2, 1, 0), (2, 1, 0)]
+""",
+    "10 count_final, days_needed, day_period": """
+>>> from moveafter.friends import count_final, day_period, days_needed
+>>> ring, way = {0: 1, 1: 2, 2: 0}, {0: 1, 1: 2, 2: None}
+>>> [[count_final(friends), days_needed(friends), day_period(friends)] for friends in [ring, way]]
+[[2, 1, 2], [1, 2, 1]]
+""",
+    "11 LiveLine": """
+>>> from moveafter.live import LiveLine
+>>> live = LiveLine((2, 0, 1))
+>>> [live.line, live.first, live.last, len(live), LiveLine.ITEMS]
+[(2, 0, 1), 2, 1, 3, 60]
+""",
+    "11 LiveLine.of": """
+>>> from moveafter.live import LiveLine
+>>> LiveLine.of(2, 0).line
+(2, 0)
+""",
+    "11 LiveLine.behind, LiveLine.before": """
+>>> from moveafter.live import LiveLine
+>>> live = LiveLine.of(0, 1, 2)
+>>> [live.behind(0, 2), live.before(0, 1)]
+[(1, 2, 0), (0, 1, 2)]
+""",
+    "11 LiveLine.run": """
+>>> from moveafter.live import LiveLine
+>>> live = LiveLine.of(0, 1, 2)
+>>> live.run((("behind", 0, 1), ("behind", 1, 2), ("behind", 2, 0)), times=10 ** 30)
+(1, 0, 2)
+""",
+    "11 LiveLine.put, LiveLine.take": """
+>>> from moveafter.live import LiveLine
+>>> live = LiveLine.of(0, 1, 2)
+>>> live.put(9)
+>>> live.take(1)
+>>> live.line
+(0, 2, 9)
+""",
+    "11 LiveLine.undo": """
+>>> from moveafter.live import LiveLine
+>>> live = LiveLine.of(0, 1, 2)
+>>> line = live.behind(0, 2)
+>>> live.undo()
+>>> [line, live.line]
+[(1, 2, 0), (0, 1, 2)]
+""",
+    "11 LiveLine.log": """
+>>> from moveafter.live import LiveLine
+>>> live = LiveLine.of(0, 1)
+>>> live.put(5)
+>>> [live.before(5, 1), live.log()]
+[(0, 5, 1), [('put', 5), ('before', 5, 1)]]
+""",
+    "11 LiveLine.preview": """
+>>> from moveafter.live import LiveLine
+>>> live = LiveLine.of(0, 1)
+>>> [live.preview(("put", 5), ("before", 5, 1)), live.line, live.log()]
+[(0, 5, 1), (0, 1), []]
+""",
+    "11 len, ==": """
+>>> from moveafter.live import LiveLine
+>>> [LiveLine.of(2, 1) == LiveLine((2, 1)), LiveLine.of(2, 1) == (2, 1)]
+[True, False]
+""",
+    "12 show_line, read_line": """
+>>> from moveafter.texts import read_line, show_line
+>>> [show_line((3, 10)), read_line('3 10 0')]
+['3 10', (3, 10, 0)]
+""",
+    "12 show_script, read_script": """
+>>> from moveafter.texts import read_script, show_script
+>>> [show_script((("behind", 0, 1), ("before", 1, 2))), read_script('0>1 1<2')]
+['0>1 1<2', (('behind', 0, 1), ('before', 1, 2))]
+""",
+    "13 Console.say": """
+>>> from moveafter.console import Console
+>>> console = Console()
+>>> opened = [console.say('line 0 1 2'), console.say('script 0>1 1>2 2>0')]
+>>> [console.say(row) for row in ['run 1', 'after 1', 'block 1', 'relation 0 2', 'settled', 'period', 'starts', 'move 2<0', 'undo']]
+['0 2 1', '1 0 2', '0 2', 'ahead', '1', '2', '3', '2 0 1', 'ok']
+""",
 }
 
 

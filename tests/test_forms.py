@@ -1,11 +1,13 @@
-"""[3], [5], [6], [8]: is_line, is_command, is_script and is_effect."""
+"""[3], [5], [6], [8], [12]: is_line, is_command, is_script, is_effect and is_friends."""
 
 import copy
 import unittest
 
 from moveafter.blocks import is_effect
+from moveafter.friends import is_friends
 from moveafter.lines import is_command, is_line, is_script
-from tests.samples import FULL_LINE, SCRIPT, STRANGE, Dice, sample_scripts, slow_blocks
+from tests.samples import (BAD_FRIENDS, FULL_LINE, SCRIPT, STRANGE, Dice, sample_friends, sample_scripts,
+                           slow_blocks)
 
 COMMAND = ("behind", 0, 1)
 
@@ -18,6 +20,11 @@ SCRIPTS = [(COMMAND,), SCRIPT, (COMMAND,) * 2, (COMMAND,) * 200]
 EFFECTS = [
     {0: (0,)}, {59: (59,)}, {0: (), 1: (0, 1)}, {0: (1,), 1: (0,)}, {1: (), 0: (1, 0)},
     {item: (item,) for item in FULL_LINE}, {item: FULL_LINE if item == 7 else () for item in FULL_LINE},
+]
+
+FRIENDS = [
+    {0: None}, {59: None}, {0: 1, 1: None}, {1: 0, 0: 1}, {0: 1, 1: 2, 2: 0}, {7: None, 3: 7, 59: 3, 0: 59},
+    {item: None for item in FULL_LINE}, {item: (item + 1) % 60 for item in FULL_LINE},
 ]
 
 
@@ -49,7 +56,8 @@ class Forms(Checks):
                 self.check(function, [value], False)
 
     def test_of_another_kind(self):
-        kinds = {is_line: LINES, is_command: COMMANDS, is_script: SCRIPTS, is_effect: EFFECTS}
+        kinds = {is_line: LINES, is_command: COMMANDS, is_script: SCRIPTS, is_effect: EFFECTS,
+                 is_friends: FRIENDS}
         for function in kinds:
             for other, values in kinds.items():
                 for value in values:
@@ -59,13 +67,14 @@ class Forms(Checks):
         deep = 0
         for _ in range(18):
             deep = (deep,)
-        for function in [is_line, is_command, is_script, is_effect]:
+        for function in [is_line, is_command, is_script, is_effect, is_friends]:
             for value in [deep, [deep], {0: deep}, ("behind", 0, deep)]:
                 self.check(function, value, False)
 
     def test_long_values(self):
-        for function in [is_line, is_script, is_effect]:
-            for value in [(0,) * 300, (COMMAND,) * 300, tuple(range(300)), {item: (item,) for item in range(300)}]:
+        for function in [is_line, is_script, is_effect, is_friends]:
+            for value in [(0,) * 300, (COMMAND,) * 300, tuple(range(300)), {item: (item,) for item in range(300)},
+                          {item: None for item in range(300)}]:
                 self.check(function, value, False)
 
 
@@ -224,6 +233,60 @@ class Effects(Checks):
             before = copy.deepcopy(effect)
             is_effect(effect)
             self.assertEqual(list(effect.items()), list(before.items()))
+
+
+class Friends(Checks):
+    def test_samples(self):
+        for friends in [*FRIENDS, *sample_friends()]:
+            self.check(is_friends, friends, True)
+            self.check(is_friends, tuple(friends.items()), False)
+            self.check(is_friends, [friends], False)
+
+    def test_wrong(self):
+        for value in BAD_FRIENDS:
+            self.check(is_friends, value, False)
+            self.check(is_friends, (value,), False)
+            self.check(is_friends, [value], False)
+
+    def test_spoiled_friend(self):
+        for friends in FRIENDS:
+            for key in friends:
+                missing = [item for item in range(-1, 62) if item not in friends]
+                for wrong in [*STRANGE, *missing, key, (0,), {}, str(friends[key])]:
+                    if wrong is not None and (not type(wrong) is int or wrong not in friends or wrong == key):
+                        self.check(is_friends, {**friends, key: wrong}, False)
+
+    def test_spoiled_key(self):
+        for friends in FRIENDS:
+            for wrong in [-1, 60, None, "0", (0,), (), "", b"0", 10 ** 99]:
+                self.check(is_friends, {**friends, wrong: None}, False)
+                self.check(is_friends, {**friends, wrong: 0}, False)
+            for old in friends:
+                self.check(is_friends, {item: friends[item] for item in friends if item != old} | {-1: None}, False)
+
+    def test_bools(self):
+        for value in [{False: None}, {True: None}, {0: True, 1: None}, {1: False, 0: None}, {True: 0, 0: None},
+                      {0: 1, True: None}, {False: 1, 1: None}, {0: False}]:
+            self.check(is_friends, value, False)
+
+    def test_every_friend(self):
+        for item in range(-3, 63):
+            self.check(is_friends, {item: None}, 0 <= item <= 59)
+            self.check(is_friends, {7: item, 59: None, 0: 59}, item in (0, 59))
+
+    def test_friend_that_is_no_key(self):
+        for friends in FRIENDS:
+            for gone in friends:
+                rest = {item: friends[item] for item in friends if item != gone}
+                self.check(is_friends, rest, rest != {} and gone not in rest.values())
+
+    def test_edges(self):
+        self.check(is_friends, {}, False)
+        for many in range(1, 61):
+            self.check(is_friends, {item: None for item in range(many)}, True)
+            self.check(is_friends, {item: (item + 1) % many for item in range(many)}, many > 1)
+        self.check(is_friends, {item: None for item in range(61)}, False)
+        self.check(is_friends, {item: None for item in range(1, 61)}, False)
 
 
 if __name__ == "__main__":
